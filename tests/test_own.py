@@ -1,0 +1,118 @@
+"""[2]: what is handed in stays as it is, what is told is the asker's own, and is told the same again."""
+
+import copy
+import unittest
+
+from somesay.sayings import base_rows, holds, is_saying, is_world, opposites, row_holds, rows_of
+from somesay.sums import part_or_sum, shows_sum, sum_of
+from somesay.terms import cells_of, classes_in, depth_of, is_term
+from tests.oracle import A, ANY, B, C, ODD_THINGS, nots, sayings_of_each_kind, seeded, some_saying
+
+SAYINGS = [("just", 2, A, B), ("more", A, ("not", B)), ("share", 1, 3, ANY, A)]
+OPEN_ROWS = [[[2, -1, 0, 0], 1], [[-1, -1, -1, -1], -9]]
+SHUT_ROWS = [[[1, 1, 1, 1], 10], [[-1, -1, -1, -1], -9]]
+
+ASKED = [
+    (is_term, (("and", A, nots(B, 3)), 2)),
+    (cells_of, (("or", A, nots(B, 3)), 2)),
+    (depth_of, (("or", A, nots(B, 3)),)),
+    (classes_in, (("or", C, ("and", A, C)),)),
+    (is_saying, (SAYINGS[2], 2)),
+    (is_saying, (list(SAYINGS[2]), 2)),
+    (holds, (SAYINGS[1], [1, 2, 3, 4])),
+    (opposites, (SAYINGS[0],)),
+    (opposites, (("least", 0, A, B),)),
+    (rows_of, (SAYINGS[0], 2)),
+    (row_holds, ([[1, 0, -1, 2], 3], [4, 3, 2, 1])),
+    (base_rows, (2, 9, SAYINGS)),
+    (is_world, (2, 9, SAYINGS, [0, 3, 1, 2])),
+    (is_world, (2, 9, SAYINGS, [0, 3, [1], 2])),
+    (sum_of, (SHUT_ROWS, [3, -2])),
+    (shows_sum, (SHUT_ROWS, [1, 1])),
+    (shows_sum, (SHUT_ROWS, [1, [1]])),
+    (part_or_sum, (OPEN_ROWS,)),
+    (part_or_sum, (SHUT_ROWS,)),
+]
+
+
+def lists_in(told):
+    """All lists within what is told, itself too."""
+    inner = [found for part in told for found in lists_in(part)] if isinstance(told, (list, tuple)) else []
+    return inner + ([told] if isinstance(told, list) else [])
+
+
+def spoil(told):
+    for one in lists_in(told):
+        one.append("spoilt")
+        one.reverse()
+
+
+class OwnTest(unittest.TestCase):
+    def test_nothing_handed_in_is_changed(self):
+        for ask, handed in ASKED:
+            before = copy.deepcopy(handed)
+            ask(*handed)
+            self.assertEqual(handed, before, ask)
+
+    def test_the_same_question_is_told_the_same(self):
+        for ask, handed in ASKED:
+            self.assertEqual(ask(*handed), ask(*copy.deepcopy(handed)), ask)
+
+    def test_a_changed_told_one_changes_nothing(self):
+        for ask, handed in ASKED:
+            mine = copy.deepcopy(handed)
+            first = ask(*mine)
+            kept = copy.deepcopy(first)
+            spoil(first)
+            self.assertEqual(mine, handed, ask)
+            self.assertEqual(ask(*mine), kept, ask)
+
+    def test_no_two_told_lists_are_one(self):
+        for ask, handed in ASKED:
+            lists = lists_in(ask(*handed)) + lists_in(ask(*handed)) + lists_in(handed)
+            self.assertEqual(len({id(one) for one in lists}), len(lists_in(handed)) + 2 * len(lists_in(ask(*handed))), ask)
+
+    def test_nothing_handed_in_is_kept(self):
+        for ask, handed in ASKED:
+            mine = copy.deepcopy(handed)
+            first = ask(*mine)
+            kept = copy.deepcopy(first)
+            spoil(mine)
+            self.assertEqual(first, kept, ask)
+
+    def test_what_was_told_may_be_handed_in_again(self):
+        rng = seeded(21)
+        for _ in range(60):
+            sayings = [some_saying(rng, 3) for _ in range(4)]
+            rows = base_rows(3, 12, sayings)
+            kind, found = part_or_sum(rows)
+            if kind == "sum":
+                self.assertIs(shows_sum(rows, found), True)
+                summed = sum_of(rows, found)
+                self.assertEqual(part_or_sum([summed])[0], "sum")
+                self.assertIs(row_holds(summed, (0,) * 8), False)
+        for saying in sayings_of_each_kind():
+            for other in opposites(saying):
+                self.assertTrue(len(opposites(other)) > 0 and rows_of(other, 2))
+
+    def test_telling_whether_is_true_or_false(self):
+        for thing in ODD_THINGS:
+            for told in (is_term(thing, 2), is_saying(thing, 2), is_world(2, 9, SAYINGS, thing), shows_sum(SHUT_ROWS, thing)):
+                self.assertIn(told, (True, False))
+                self.assertIs(type(told), bool)
+
+    def test_somewhat_beyond_the_bounds(self):
+        # No refusal is told of these, so they are answered as plainly as any.
+        self.assertEqual(cells_of(nots(A, 11), 5), tuple(range(0, 32, 2)))
+        self.assertEqual(depth_of(nots(A, 11)), 12)
+        self.assertIs(holds(("least", 50, ANY, A), [0, 60]), True)
+        self.assertEqual(rows_of(("just", 50, A, A), 1), [((0, 1), 50), ((0, -1), -50)])
+        self.assertEqual(base_rows(1, 99, [("all", A, A)] * 12), [((-1, -1), -99)] + [((0, 0), 0)] * 12)
+        self.assertIs(is_world(1, 99, [], (90, 9)), True)
+        self.assertEqual([sum_of([], []), shows_sum([], []), part_or_sum([])], [((), 0), False, ("part", ())])
+        self.assertEqual(part_or_sum([((2,), 1)]), ("part", ((1, 2),)))
+        self.assertEqual(part_or_sum([((-1,) * 20, -10 ** 12)] * 40)[0], "part")
+
+
+if __name__ == "__main__":
+    unittest.main()
