@@ -8,52 +8,111 @@ A line holds where its last number isn't below 0; all variables are to be 0 or m
 
 
 class Board:
-    """Variables are numbered: first the cells, then the rows."""
+    """Variables are numbered: first the cells, then the rows as they came. Each row has a name of its asker's."""
 
-    def __init__(self, rows):
-        self.width = len(rows[0][0]) if rows else 0
+    def __init__(self, width):
+        self.width = width
         self.bottom = 1
-        self.lines = [list(numbers) + [-least] for numbers, least in rows]
-        self.lined = [self.width + k for k in range(len(rows))]
-        self.still = list(range(self.width))
+        self.lines = []
+        self.lined = []
+        self.still = list(range(width))
+        self.names = []
 
-    def settle(self):
-        """Swap till each line holds: None; or the number of a line that can't be made to."""
-        # A line that holds once holds ever after: no swap lets one fall below 0.
-        for at in range(len(self.lines)):
-            while self.lines[at][-1] < 0:
-                chosen = self.best_swap(at)
-                if chosen is None:
-                    return at
-                self.swap(chosen[0], chosen[1])
-        return None
+    def twin(self):
+        """A board of its own that stands as this one does."""
+        other = Board(self.width)
+        other.bottom = self.bottom
+        # Lines are put in one another's place, but never changed: both boards may have the same ones.
+        other.lines = list(self.lines)
+        other.lined = list(self.lined)
+        other.still = list(self.still)
+        other.names = list(self.names)
+        return other
 
-    def best_swap(self, at):
-        """The swap, a line and a place, by which a line that doesn't hold rises most; None if it can't."""
+    def add_row(self, numbers, least, name):
+        """Whether the row can hold together with those that came before; then counts are such that it does."""
+        return self.settle(self.add_line(self.line_of(numbers, least), name))
+
+    def pin(self, numbers, total):
+        """Whether the counts, each times its number, can add up to just this total; then they do for ever."""
+        line = self.line_of(numbers, total)
+        if line[-1] > 0:
+            line = [-number for number in line]
+        variable = self.width + len(self.names)
+        at = self.add_line(line, None)
+        # A line that is made to hold stops at 0, and its variable is still from then on.
+        if not self.settle(at):
+            return False
+        if variable not in self.still:
+            places = [place for place in range(len(self.still)) if line[place] != 0]
+            if not places:
+                return True
+            self.swap(at, places[0])
+        self.drop(self.still.index(variable))
+        return True
+
+    def line_of(self, numbers, least):
+        """How much the counts by these numbers add up to more than least, told by the still variables."""
+        line = [numbers[variable] * self.bottom if variable < self.width else 0 for variable in self.still]
+        line.append(-least * self.bottom)
+        for variable, other in zip(self.lined, self.lines):
+            if variable < self.width and numbers[variable] != 0:
+                by = numbers[variable]
+                line = [number + by * more for number, more in zip(line, other)]
+        return line
+
+    def add_line(self, line, name):
+        self.lines.append(line)
+        self.lined.append(self.width + len(self.names))
+        self.names.append(name)
+        return len(self.lines) - 1
+
+    def settle(self, at):
+        """Swap till the line holds, all others holding: whether it can be made to."""
+        while self.lines[at][-1] < 0:
+            chosen = self.best_swap(at, True)
+            if chosen is None:
+                return False
+            self.swap(chosen[0], chosen[1])
+        return True
+
+    def highest(self, numbers):
+        """The most that counts by these numbers can add up to, (top, bottom), and by which times of rows.
+
+        The rows are such that there is a most.
+        """
+        at = self.add_line(self.line_of(numbers, 0), None)
+        chosen = self.best_swap(at, False)
+        while chosen is not None:
+            self.swap(chosen[0], chosen[1])
+            chosen = self.best_swap(at, False)
+        line = self.lines.pop()
+        self.lined.pop()
+        self.names.pop()
+        return (line[-1], self.bottom, self.times_in(line))
+
+    def best_swap(self, at, to_hold):
+        """The swap, (line, place), by which a line rises most, or just holds if to_hold; None if it can't rise."""
         lead = self.lines[at]
         best, top, bottom = None, 0, 1
         # Of swaps that raise it alike the variable numbered least goes: where nothing rises at all
         # this is Bland's rule, by which the swaps don't go round for ever.
-        for variable, place in sorted([(self.still[k], k) for k in range(self.width) if lead[k] > 0]):
-            stop, far, by = self.first_stop(place, at)
-            if stop == at:
-                return (stop, place)
+        for variable, place in sorted([(self.still[k], k) for k in range(len(self.still)) if lead[k] > 0]):
+            stop, far, by = self.first_stop(place)
             rise = far * lead[place]
+            if to_hold and (stop is None or rise + lead[-1] * by >= 0):
+                return (at, place)
             if best is None or rise * bottom > top * by:
                 best, top, bottom = (stop, place), rise, by
         return best
 
-    def first_stop(self, place, at):
-        """Which line stops the still variable at place from growing on, and how far it may grow: (line, top, bottom).
-
-        Line at stops it where it holds, another line that holds where it would fall below 0.
-        """
-        lead = self.lines[at]
-        stop, top, bottom = at, -lead[-1], lead[place]
+    def first_stop(self, place):
+        """Which line first falls to 0 where the still variable at place grows, and how far: (line, top, bottom)."""
+        stop, top, bottom = None, 0, 1
         for k, line in enumerate(self.lines):
-            if line[place] < 0 and line[-1] >= 0:
-                gap = line[-1] * bottom + line[place] * top
-                if gap < 0 or (gap == 0 and stop != at and self.lined[k] < self.lined[stop]):
+            if line[place] < 0:
+                gap = -1 if stop is None else line[-1] * bottom + line[place] * top
+                if gap < 0 or (gap == 0 and self.lined[k] < self.lined[stop]):
                     stop, top, bottom = k, line[-1], -line[place]
         return (stop, top, bottom)
 
@@ -66,6 +125,17 @@ class Board:
         self.bottom = pivot
         self.lined[at], self.still[place] = self.still[place], self.lined[at]
 
+    def drop(self, place):
+        """Forget a still variable: it stays at 0."""
+        self.lines = [line[:place] + line[place + 1:] for line in self.lines]
+        self.still.pop(place)
+
+    def forget(self, size):
+        """Let go of the rows behind the first so many, but those that are at their leasts now."""
+        left = [k for k, variable in enumerate(self.lined) if variable < self.width + size]
+        self.lines = [self.lines[k] for k in left]
+        self.lined = [self.lined[k] for k in left]
+
     def cell_tops(self):
         """What each cell's count is, over the bottom."""
         tops = [0] * self.width
@@ -74,13 +144,25 @@ class Board:
                 tops[variable] = line[-1]
         return tops
 
-    def row_times(self, at):
-        """Of a line that can't hold: how many times each row goes into the sum that shows it."""
-        times = [0] * len(self.lines)
-        times[self.lined[at] - self.width] = self.bottom
-        for variable, number in zip(self.still, self.lines[at]):
-            if variable >= self.width:
-                times[variable - self.width] = -number
+    def whole_counts(self):
+        """Each cell's count, None where one isn't whole."""
+        tops = self.cell_tops()
+        if any(top % self.bottom != 0 for top in tops):
+            return None
+        return [top // self.bottom for top in tops]
+
+    def times_in(self, line):
+        """By name, how many times each row goes into the sum that shows how far a line can rise."""
+        return {
+            self.names[variable - self.width]: -number
+            for variable, number in zip(self.still, line)
+            if variable >= self.width and number != 0
+        }
+
+    def stuck_times(self):
+        """Of the last row, where it can't hold: by name, how many times each row goes into the sum that shows so."""
+        times = self.times_in(self.lines[-1])
+        times[self.names[-1]] = self.bottom
         return times
 
 
@@ -95,8 +177,8 @@ def solved(lead, place, bottom):
 def put_in(line, told, place, pivot, bottom):
     """The line with the variable at place put in as it is told; bottom is the line's, pivot the new one."""
     by = line[place]
-    if by == 0 and pivot == bottom:
-        return line
+    if by == 0:
+        return line if pivot == bottom else [number * pivot // bottom for number in line]
     cleared = line[:place] + [0] + line[place + 1:]
     # Each number is a determinant of the first lines' numbers, so no division leaves a rest.
     return [(number * pivot + by * other) // bottom for number, other in zip(cleared, told)]

@@ -29,3 +29,11 @@ def lowest_terms(top, bottom):
     """The fraction, neither part below 0, with no common factor left."""
     factor = common_factor(top, bottom)
     return (top // factor, bottom // factor)
+
+
+def lowered(numbers):
+    """The numbers, none below 0 and some above it, without what divides all of them."""
+    factor = 0
+    for number in numbers:
+        factor = common_factor(factor, number)
+    return [number // factor for number in numbers]

@@ -1,14 +1,17 @@
 """Sums of rows: counts in fractions by which rows hold, or a sum that shows there are none."""
 
 from somesay.board import Board
-from somesay.plain import common_factor, is_counts, lowest_terms, weighed
+from somesay.plain import is_counts, lowest_terms, lowered, weighed
 
 
 def sum_of(rows, times):
     """The row of all rows' numbers and leasts, each row so many times, added up."""
     width = len(rows[0][0]) if rows else 0
-    numbers = [weighed([row[0][cell] for row in rows], times) for cell in range(width)]
-    return (tuple(numbers), weighed([row[1] for row in rows], times))
+    # Long papers go by many rows, of which most steps use few.
+    used = [(row, time) for row, time in zip(rows, times) if time != 0]
+    factors = [time for row, time in used]
+    numbers = [weighed([row[0][cell] for row, time in used], factors) for cell in range(width)]
+    return (tuple(numbers), weighed([row[1] for row, time in used], factors))
 
 
 def shows_sum(rows, times):
@@ -21,16 +24,9 @@ def shows_sum(rows, times):
 
 def part_or_sum(rows):
     """Fractions by which all rows hold, ("part", parts); or times that show there are none, ("sum", times)."""
-    board = Board(rows)
-    stuck = board.settle()
-    if stuck is None:
-        return ("part", tuple([lowest_terms(top, board.bottom) for top in board.cell_tops()]))
-    return ("sum", lowered(board.row_times(stuck)))
-
-
-def lowered(times):
-    """The times, some above 0, without what divides all of them."""
-    factor = 0
-    for time in times:
-        factor = common_factor(factor, time)
-    return [time // factor for time in times]
+    board = Board(len(rows[0][0]) if rows else 0)
+    for name, row in enumerate(rows):
+        if not board.add_row(row[0], row[1], name):
+            times = board.stuck_times()
+            return ("sum", lowered([times.get(k, 0) for k in range(len(rows))]))
+    return ("part", tuple([lowest_terms(top, board.bottom) for top in board.cell_tops()]))

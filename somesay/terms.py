@@ -35,7 +35,7 @@ def is_of(term, cell):
     """Whether the things of a cell are of the term."""
     head = term[0]
     if head == "is":
-        return (cell >> term[1]) & 1 == 1
+        return (cell >> term[1]) % 2 == 1
     if head == "any":
         return True
     if head == "not":

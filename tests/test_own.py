@@ -3,14 +3,24 @@
 import copy
 import unittest
 
+from somesay.clashes import clash, clashing_pairs, shows_clash
+from somesay.finding import forms_of, world_of, world_or_paper
+from somesay.following import follows, needed_for, settled, shows_follows
+from somesay.papers import paper_size, rows_at, shows_paper, whole_row
 from somesay.sayings import base_rows, holds, is_saying, is_world, opposites, row_holds, rows_of
 from somesay.sums import part_or_sum, shows_sum, sum_of
 from somesay.terms import cells_of, classes_in, depth_of, is_term
-from tests.oracle import A, ANY, B, C, ODD_THINGS, nots, sayings_of_each_kind, seeded, some_saying
+from tests.oracle import A, ANY, B, BY_FRACTIONS, C, ODD_THINGS, nots, rows_near, sayings_of_each_kind, seeded, some_saying
 
 SAYINGS = [("just", 2, A, B), ("more", A, ("not", B)), ("share", 1, 3, ANY, A)]
 OPEN_ROWS = [[[2, -1, 0, 0], 1], [[-1, -1, -1, -1], -9]]
 SHUT_ROWS = [[[1, 1, 1, 1], 10], [[-1, -1, -1, -1], -9]]
+HALF_ROWS = [[[-1, -1], -9], [[2, 0], 1], [[-2, 0], -1]]
+HALF_PAPER = [["cases", [0], 0, 1, 2], ["sum", [0, 1, 0, 2]], ["sum", [0, 0, 1, 2]]]
+BY_TWO = [["whole", [1, 0], 2, 1], ["sum", [0, 1, 2]]]
+# By cases of its form, and by slices where there is none.
+FAR_ROWS = [[[-1, -1, -1], -40], [[5, -3, 7], 9], [[-5, 3, -7], -10], [[4, 9, -11], 3], [[-4, -9, 11], -3], [[2, 5, 3], 91]]
+CLASHING = [("some", A, B), ("none", A, B)]
 
 ASKED = [
     (is_term, (("and", A, nots(B, 3)), 2)),
@@ -32,7 +42,33 @@ ASKED = [
     (shows_sum, (SHUT_ROWS, [1, [1]])),
     (part_or_sum, (OPEN_ROWS,)),
     (part_or_sum, (SHUT_ROWS,)),
-]
+    (shows_paper, (HALF_ROWS, HALF_PAPER)),
+    (shows_paper, (HALF_ROWS, HALF_PAPER[:2])),
+    (shows_paper, (HALF_ROWS, [HALF_PAPER])),
+    (rows_at, (HALF_ROWS, HALF_PAPER)),
+    (rows_at, (HALF_ROWS[1:], BY_TWO)),
+    (paper_size, (HALF_PAPER,)),
+    (whole_row, ([[3, -3], 1], 2)),
+    (world_or_paper, (HALF_ROWS, [])),
+    (world_or_paper, (HALF_ROWS, [[0], [1, 0]])),
+    (world_or_paper, ([[[-1, -1, -1, -1], -9]] + OPEN_ROWS[:1], [[0, 3]])),
+    (world_or_paper, ([[[-1, -1, -1, -1], -9]] + SHUT_ROWS, [])),
+    (world_or_paper, (FAR_ROWS, [])),
+    (forms_of, (SAYINGS, 2)),
+    (world_of, (2, 9, SAYINGS)),
+    (follows, (2, 9, SAYINGS, ("some", A, A))),
+    (follows, (2, 9, SAYINGS, ("just", 2, B, A))),
+    (follows, (2, 9, SAYINGS, ("just", 3, B, A))),
+    (follows, (2, 9, SAYINGS, ("least", 0, B, A))),
+    (shows_follows, (2, 9, SAYINGS, ("some", A, B), [[["sum", [0, 1, 0, 0, 0, 1]]]])),
+    (settled, (2, 9, SAYINGS, ("all", A, B))),
+    (needed_for, (2, 9, SAYINGS, ("some", B, A))),
+    (needed_for, (2, 9, SAYINGS, ("all", B, A))),
+    (clash, (2, 9, SAYINGS)),
+    (clash, (2, 9, SAYINGS + [("none", A, B), ("all", A, B)])),
+    (shows_clash, (2, 9, CLASHING, [[0, 1], [["sum", [0, 1, 1]]], [[0, 0, 0, 0], [0, 0, 0, 1]]])),
+    (clashing_pairs, (2, 9, SAYINGS + [("none", A, B), ("all", A, B)])),
+] + [(world_of, handed) for handed in BY_FRACTIONS] + [(clash, handed) for handed in BY_FRACTIONS]
 
 
 def lists_in(told):
@@ -95,9 +131,40 @@ class OwnTest(unittest.TestCase):
             for other in opposites(saying):
                 self.assertTrue(len(opposites(other)) > 0 and rows_of(other, 2))
 
+    def test_told_papers_and_worlds_may_be_handed_in_again(self):
+        rng = seeded(22)
+        for _ in range(60):
+            rows = rows_near(rng, 5, 9, 7, 15)
+            kind, found = world_or_paper(rows, [])
+            if kind == "world":
+                self.assertEqual([row_holds(row, found) for row in rows], [True] * len(rows))
+                continue
+            self.assertIs(shows_paper(rows, found), True)
+            self.assertEqual(sum(paper_size(found)), len(found))
+            for told in rows_at(rows, found):
+                self.assertEqual(world_or_paper(told, [])[0], "none")
+                kind, parts = part_or_sum(told)
+                self.assertIn(kind, ("part", "sum"))
+        for many, most, sayings in BY_FRACTIONS:
+            told = clash(many, most, sayings)
+            self.assertIs(shows_clash(many, most, sayings, told), True)
+            kept = [sayings[number] for number in told[0]]
+            self.assertEqual(clash(many, most, kept)[0], tuple(range(len(kept))))
+
+    def test_nothing_done_between_changes_an_answer(self):
+        first = [ask(*handed) for ask, handed in ASKED]
+        for told in first:
+            kept = copy.deepcopy(told)
+            spoil(told)
+            self.assertEqual(told == kept, not lists_in(told))
+        again = [ask(*handed) for ask, handed in reversed(ASKED)][::-1]
+        self.assertEqual(again, [ask(*copy.deepcopy(handed)) for ask, handed in ASKED])
+
     def test_telling_whether_is_true_or_false(self):
         for thing in ODD_THINGS:
-            for told in (is_term(thing, 2), is_saying(thing, 2), is_world(2, 9, SAYINGS, thing), shows_sum(SHUT_ROWS, thing)):
+            for told in (is_term(thing, 2), is_saying(thing, 2), is_world(2, 9, SAYINGS, thing), shows_sum(SHUT_ROWS, thing),
+                         shows_paper(HALF_ROWS, thing), shows_follows(2, 9, SAYINGS, SAYINGS[0], thing),
+                         shows_clash(2, 9, CLASHING, thing)):
                 self.assertIn(told, (True, False))
                 self.assertIs(type(told), bool)
 
