@@ -3,13 +3,16 @@
 import copy
 import unittest
 
+from somesay.asking import ask_plan, best_ask, split_by
 from somesay.clashes import clash, clashing_pairs, shows_clash
 from somesay.finding import forms_of, world_of, world_or_paper
 from somesay.following import follows, needed_for, settled, shows_follows
+from somesay.least import all_worlds, fewest_things, greatest_count, least_count, least_world, shows_least
 from somesay.papers import paper_size, rows_at, shows_paper, whole_row
 from somesay.sayings import base_rows, holds, is_saying, is_world, opposites, row_holds, rows_of
 from somesay.sums import part_or_sum, shows_sum, sum_of
 from somesay.terms import cells_of, classes_in, depth_of, is_term
+from somesay.texts import saying_of, term_text, text_of
 from tests.oracle import A, ANY, B, BY_FRACTIONS, C, ODD_THINGS, nots, rows_near, sayings_of_each_kind, seeded, some_saying
 
 SAYINGS = [("just", 2, A, B), ("more", A, ("not", B)), ("share", 1, 3, ANY, A)]
@@ -21,6 +24,7 @@ BY_TWO = [["whole", [1, 0], 2, 1], ["sum", [0, 1, 2]]]
 # By cases of its form, and by slices where there is none.
 FAR_ROWS = [[[-1, -1, -1], -40], [[5, -3, 7], 9], [[-5, 3, -7], -10], [[4, 9, -11], 3], [[-4, -9, 11], -3], [[2, 5, 3], 91]]
 CLASHING = [("some", A, B), ("none", A, B)]
+WORLDS = [[0, 0, 0, 0], [0, 1, 0, 0], [0, 0, 0, 1], [0, 0, 0, 1], [2, 0, 3, 0]]
 
 ASKED = [
     (is_term, (("and", A, nots(B, 3)), 2)),
@@ -68,6 +72,25 @@ ASKED = [
     (clash, (2, 9, SAYINGS + [("none", A, B), ("all", A, B)])),
     (shows_clash, (2, 9, CLASHING, [[0, 1], [["sum", [0, 1, 1]]], [[0, 0, 0, 0], [0, 0, 0, 1]]])),
     (clashing_pairs, (2, 9, SAYINGS + [("none", A, B), ("all", A, B)])),
+    (fewest_things, (2, 9, SAYINGS)),
+    (fewest_things, (2, 9, CLASHING)),
+    (least_world, (2, 9, SAYINGS)),
+    (least_world, (2, 9, SAYINGS[2:])),
+    (least_world, (2, 9, CLASHING)),
+    (shows_least, (2, 9, CLASHING[:1], [0, 0, 0, 1], [["sum", [1, 1]]])),
+    (shows_least, (2, 9, CLASHING[1:], [0, 0, 0, 0], None)),
+    (all_worlds, (2, 3, CLASHING[:1])),
+    (all_worlds, (2, 3, CLASHING)),
+    (least_count, (2, 9, SAYINGS, A)),
+    (greatest_count, (2, 9, SAYINGS, ("not", A))),
+    (greatest_count, (2, 9, CLASHING, ANY)),
+    (split_by, (WORLDS, ("some", A, A))),
+    (best_ask, (WORLDS, CLASHING + SAYINGS)),
+    (best_ask, (WORLDS[:1], CLASHING)),
+    (ask_plan, (WORLDS, CLASHING + SAYINGS)),
+    (text_of, (SAYINGS[1], ["birds", "cats"])),
+    (saying_of, ("all ( birds and not cats ) are things", ["birds", "cats"])),
+    (term_text, (("or", A, nots(B, 3)), ["birds", "cats"])),
 ] + [(world_of, handed) for handed in BY_FRACTIONS] + [(clash, handed) for handed in BY_FRACTIONS]
 
 
@@ -151,6 +174,25 @@ class OwnTest(unittest.TestCase):
             kept = [sayings[number] for number in told[0]]
             self.assertEqual(clash(many, most, kept)[0], tuple(range(len(kept))))
 
+    def test_told_worlds_and_least_papers_may_be_handed_in_again(self):
+        rng = seeded(23)
+        for _ in range(40):
+            sayings = [some_saying(rng, 2, 3, 3) for _ in range(rng.randint(0, 3))]
+            told = all_worlds(2, 7, sayings)
+            kind, *found = least_world(2, 7, sayings)
+            if kind == "none":
+                self.assertEqual(told, [])
+                self.assertIs(shows_paper(base_rows(2, 7, sayings), found[0]), True)
+                continue
+            self.assertIn(found[0], told)
+            self.assertIs(shows_least(2, 7, sayings, found[0], found[1]), True)
+            if found[1] is not None:
+                self.assertGreater(sum(paper_size(found[1])), 0)
+                self.assertEqual(world_or_paper(rows_at(base_rows(2, sum(found[0]) - 1, sayings), found[1])[-1], [])[0], "none")
+            self.assertEqual(split_by(told, ("all", A, A)), (len(told), 0))
+            plan = ask_plan(told, [some_saying(rng, 2, 2, 3) for _ in range(10)])
+            self.assertEqual(plan, sorted(plan, key=lambda asked: -asked[1] - asked[2]))
+
     def test_nothing_done_between_changes_an_answer(self):
         first = [ask(*handed) for ask, handed in ASKED]
         for told in first:
@@ -164,7 +206,7 @@ class OwnTest(unittest.TestCase):
         for thing in ODD_THINGS:
             for told in (is_term(thing, 2), is_saying(thing, 2), is_world(2, 9, SAYINGS, thing), shows_sum(SHUT_ROWS, thing),
                          shows_paper(HALF_ROWS, thing), shows_follows(2, 9, SAYINGS, SAYINGS[0], thing),
-                         shows_clash(2, 9, CLASHING, thing)):
+                         shows_clash(2, 9, CLASHING, thing), shows_least(2, 9, CLASHING[:1], thing, thing)):
                 self.assertIn(told, (True, False))
                 self.assertIs(type(told), bool)
 
@@ -179,6 +221,10 @@ class OwnTest(unittest.TestCase):
         self.assertEqual([sum_of([], []), shows_sum([], []), part_or_sum([])], [((), 0), False, ("part", ())])
         self.assertEqual(part_or_sum([((2,), 1)]), ("part", ((1, 2),)))
         self.assertEqual(part_or_sum([((-1,) * 20, -10 ** 12)] * 40)[0], "part")
+        self.assertEqual(fewest_things(1, 99, [("least", 60, A, A)]), 60)
+        self.assertEqual(greatest_count(1, 99, [("most", 60, A, A)] * 12, A), 60)
+        self.assertEqual(len(all_worlds(2, 15, [])), 3876)
+        self.assertEqual(text_of(("least", 50, nots(A, 11), A), ["x"]), "at least 50 " + "not " * 11 + "x are x")
 
 
 if __name__ == "__main__":
