@@ -24,12 +24,15 @@ def goes_by(paper, rows):
 
 
 def without_rows(paper, rows):
-    """The paper without the times of these rows: one for the other rows, if it goes by none of these."""
+    """The paper without the times of these rows: one for the other rows, if it goes by none of these.
+
+    Steps are tuples, times lists and cells tuples, whichever they were.
+    """
     found = []
     for step in paper:
         if step[0] == "cases":
-            found.append(step)
+            kept = tuple(step[1])
         else:
-            times = [time for row, time in enumerate(step[1]) if row not in rows]
-            found.append((step[0], times) + step[2:])
+            kept = [time for row, time in enumerate(step[1]) if row not in rows]
+        found.append((step[0], kept, *step[2:]))
     return found

@@ -83,7 +83,7 @@ class Reader:
     def read_one_of(self, wanted):
         """Go past the next word, which is one of those wanted, and tell it."""
         word = self.word_here()
-        if word is None or word not in wanted:
+        if word not in wanted:
             raise BadText("no saying goes on so", self.place)
         self.place += 1
         return word

@@ -95,6 +95,17 @@ class LeastWorldTest(Case):
         thirds = [("some", ANY, ANY), ("share", 1, 3, ANY, A), ("share", 2, 3, ANY, ("not", A)), ("least", 4, A, ANY)]
         self.assertEqual(self.least(2, 40, thirds), 12)
 
+    def test_things_that_are_of_several_classes(self):
+        # There are worlds of many more things in which all fits as well.
+        for n in (1, 3, 20):
+            self.assertEqual(self.least(2, 40, [("just", n, A, ANY), ("just", n, ANY, B)]), n)
+            self.assertEqual(self.least(4, 40, [("just", n, ("is", k), ANY) for k in range(4)] + [("least", 1, A, ANY)]), n)
+        self.assertEqual(self.least(3, 40, [("just", 10, A, ANY), ("just", 7, B, ANY), ("least", 3, A, ("not", C))]), 10)
+        self.assertEqual(self.least(1, 37, [("more", ANY, A), ("share", 2, 6, ANY, A)]), 2)
+        ninths = [("more", ANY, B), ("share", 4, 9, ANY, B), ("share", 5, 9, ANY, ("not", B))]
+        self.assertEqual(self.least(2, 40, ninths), 9)
+        self.assertEqual(self.least(2, 40, ninths + [("least", 10, ANY, ANY)]), 18)
+
     def test_where_all_worlds_can_be_gone_through(self):
         rng = seeded(81)
         seen = {}
@@ -111,7 +122,7 @@ class LeastWorldTest(Case):
     def test_many_drawn_ones(self):
         rng = seeded(82)
         seen = {}
-        for _ in range(250):
+        for _ in range(500):
             many, most = rng.randint(1, 4), rng.randint(0, 40)
             sayings = drawn(rng, many, most, rng.randint(0, 10))
             told = self.least(many, most, sayings)
@@ -269,6 +280,14 @@ class CountTest(unittest.TestCase):
         self.assertEqual(self.told(1, 40, HALVES, ANY), (6, 40))
         self.assertEqual(self.told(1, 39, HALVES, ANY), (6, 38))
         self.assertEqual(self.told(1, 39, HALVES, A), (3, 19))
+
+    def test_counts_with_gaps_between(self):
+        ninths = [("more", ANY, B), ("share", 4, 9, ANY, B), ("share", 5, 9, ANY, ("not", B))]
+        self.assertEqual(self.told(2, 40, ninths, ANY), (9, 36))
+        self.assertEqual(self.told(2, 27, ninths, ANY), (9, 27))
+        self.assertEqual(self.told(2, 40, ninths, B), (4, 16))
+        self.assertEqual(self.told(2, 40, ninths, ("not", B)), (5, 20))
+        self.assertEqual(self.told(2, 40, ninths + [("least", 10, ANY, ANY), ("most", 35, ANY, ANY)], ANY), (18, 27))
 
     def test_a_term_of_eight_deep(self):
         self.assertEqual(self.told(1, 40, [("just", 9, A, A)], nots(A, 7)), (0, 31))

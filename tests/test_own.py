@@ -8,8 +8,11 @@ from somesay.clashes import clash, clashing_pairs, shows_clash
 from somesay.finding import forms_of, world_of, world_or_paper
 from somesay.following import follows, needed_for, settled, shows_follows
 from somesay.least import all_worlds, fewest_things, greatest_count, least_count, least_world, shows_least
+from somesay.narrowing import narrowed, sources, used_sayings
 from somesay.papers import paper_size, rows_at, shows_paper, whole_row
+from somesay.papertexts import paper_in, paper_text
 from somesay.sayings import base_rows, holds, is_saying, is_world, opposites, row_holds, rows_of
+from somesay.sheet import run
 from somesay.sums import part_or_sum, shows_sum, sum_of
 from somesay.terms import cells_of, classes_in, depth_of, is_term
 from somesay.texts import saying_of, term_text, text_of
@@ -24,6 +27,7 @@ BY_TWO = [["whole", [1, 0], 2, 1], ["sum", [0, 1, 2]]]
 # By cases of its form, and by slices where there is none.
 FAR_ROWS = [[[-1, -1, -1], -40], [[5, -3, 7], 9], [[-5, 3, -7], -10], [[4, 9, -11], 3], [[-4, -9, 11], -3], [[2, 5, 3], 91]]
 CLASHING = [("some", A, B), ("none", A, B)]
+CLASH_PAPER = [["cases", [3], 0, 2, 1], ["sum", [0, 0, 1, 1]], ["whole", [0, 1, 0, 1], 1, 3], ["sum", [0, 0, 0, 0, 1]]]
 WORLDS = [[0, 0, 0, 0], [0, 1, 0, 0], [0, 0, 0, 1], [0, 0, 0, 1], [2, 0, 3, 0]]
 
 ASKED = [
@@ -91,6 +95,13 @@ ASKED = [
     (text_of, (SAYINGS[1], ["birds", "cats"])),
     (saying_of, ("all ( birds and not cats ) are things", ["birds", "cats"])),
     (term_text, (("or", A, nots(B, 3)), ["birds", "cats"])),
+    (run, ("classes 9 a b\nsay x all a are b\nworld\nfollows all b are a\ncount a\nclash\nlabels",)),
+    (sources, (2, 9, CLASHING, CLASH_PAPER)),
+    (used_sayings, (2, 9, CLASHING, CLASH_PAPER)),
+    (narrowed, (2, 9, CLASHING, CLASH_PAPER)),
+    (narrowed, (2, 9, [("all", A, A)] + CLASHING, [["sum", [0, 0, 1, 1]]])),
+    (paper_text, (CLASH_PAPER,)),
+    (paper_in, ("cases 3 at 0 then 2 or 1\nsum 0 0 1 1\nwhole 0 1 0 1 by 1 then 3\nsum 0 0 0 0 1",)),
 ] + [(world_of, handed) for handed in BY_FRACTIONS] + [(clash, handed) for handed in BY_FRACTIONS]
 
 
@@ -192,6 +203,10 @@ class OwnTest(unittest.TestCase):
             self.assertEqual(split_by(told, ("all", A, A)), (len(told), 0))
             plan = ask_plan(told, [some_saying(rng, 2, 2, 3) for _ in range(10)])
             self.assertEqual(plan, sorted(plan, key=lambda asked: -asked[1] - asked[2]))
+
+    def test_papers_of_the_table_are_papers(self):
+        self.assertIs(shows_paper(base_rows(2, 9, CLASHING), CLASH_PAPER), True)
+        self.assertIs(shows_paper(HALF_ROWS, HALF_PAPER), True)
 
     def test_nothing_done_between_changes_an_answer(self):
         first = [ask(*handed) for ask, handed in ASKED]

@@ -143,6 +143,12 @@ class RefusedTest(Case):
                 self.assertEqual(self.refused(f"{opening} {word} x are x"), at, word[:9])
                 self.assertEqual(self.refused(f"{opening} {word}"), at, word[:9])
 
+    def test_only_figures_make_a_number(self):
+        for code in range(33, 127):
+            for word in (chr(code), "1" + chr(code), chr(code) + "1"):
+                if not word.isdigit():
+                    self.assertEqual(self.refused(f"exactly {word} x are x"), 1, word)
+
     def test_shares_beyond_their_bounds(self):
         for opening, at in (("share", 1), ("not share", 2)):
             for top in ("13", "14", "120", "-1", "007", "00", "01", "", "x", "9" * 5000, "\u0661"):
